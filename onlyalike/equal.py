@@ -1,0 +1,76 @@
+"""PLACES of a FLOW that are EQUAL UNDER a LINK, a GOING ON that tells them apart, and their MATCHes."""
+
+from onlyalike.errors import BadLink, BadPlace, TooMany
+from onlyalike.flows import need_flow
+from onlyalike.joints import Joints, is_link, whole_way
+from onlyalike.things import is_number
+
+MOST_NEEDED = 5
+
+
+def need_place(flow, thing):
+    """The number of a PLACE itself; BadPlace of what is none."""
+    need_flow(flow)
+    if not is_number(thing, len(flow[1]) - 1):
+        raise BadPlace(thing)
+    return thing
+
+
+def need_link(flow, p, q, thing):
+    """The LINK of two PLACES itself; BadLink of what is none."""
+    need_place(flow, p)
+    need_place(flow, q)
+    if not is_link(thing, flow[1][p][0], flow[1][q][0]):
+        raise BadLink(thing)
+    return thing
+
+
+def going_on(flow, p, q, link):
+    """A GOING ON that TELLS UNLIKE, with as few items as can be, or None."""
+    need_link(flow, p, q, link)
+    items = Joints(flow, flow).faulty_way((p, q, link))
+    return None if items is None else whole_way(flow, flow, (p, q, link), items)
+
+
+def is_equal(flow, p, q, link):
+    """Whether two PLACES are EQUAL UNDER a LINK."""
+    return going_on(flow, p, q, link) is None
+
+
+def needed_things(joints, p):
+    """The numbers of the THINGS that are NEEDED at a PLACE, by the JOINTS of a FLOW with itself."""
+    many = list(range(joints.places[p][0]))
+    links = [tuple([(at, at) for at in many if at != left]) for left in many]
+    return [left for left in many if not joints.is_fine((p, p, links[left]))]
+
+
+def few_needed(joints, p):
+    """The same; TooMany if they are too many to be put in all orders."""
+    needed = needed_things(joints, p)
+    if len(needed) > MOST_NEEDED:
+        raise TooMany(MOST_NEEDED)
+    return needed
+
+
+def one_to_one(ones, others):
+    """All LINKS of all of the ones with as many others, ascending."""
+    links = [()]
+    for first in ones:
+        longer = []
+        for link in links:
+            taken = [pair[1] for pair in link]
+            longer.extend([(*link, (first, second)) for second in others if second not in taken])
+        links = longer
+    return links
+
+
+def matches(flow, p, q):
+    """The ascending tuple of the MATCHes of two PLACES."""
+    need_place(flow, p)
+    need_place(flow, q)
+    joints = Joints(flow, flow)
+    ones = few_needed(joints, p)
+    others = few_needed(joints, q)
+    if len(ones) != len(others):
+        return ()
+    return tuple([link for link in one_to_one(ones, others) if joints.is_fine((p, q, link))])

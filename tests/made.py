@@ -1,0 +1,210 @@
+"""Things, MACHINES and FLOWS that several tests use, and a second way of going through lists."""
+
+import random
+
+
+class Agrees:
+    """An object that says of itself that it equals anything."""
+
+    __hash__ = None
+
+    def __eq__(self, other):
+        return True
+
+
+class Plain:
+    """An object without anything."""
+
+
+def wrong_things():
+    """Things of many kinds; none of them is an integer, a string or a tuple."""
+    return [True, False, None, b"a", [], [1], {}, {"a": 1}, set(), {1}, frozenset(), len, lambda: 1, Plain(), Agrees(),
+            Plain, range(2), 2j]
+
+
+def go(row=(), deeds=(), name="on"):
+    return "go", deeds, row, name
+
+
+def end(verdict="yes", row=()):
+    return "end", verdict, row
+
+
+def ask(question, yes, no):
+    return "ask", question, yes, no
+
+
+def one_state(item, ending=None, words=(), boxes=()):
+    """A MACHINE with the one STATE "on"."""
+    return words, boxes, (("on", item, ending or end()),)
+
+
+def chain(many, leaf, question):
+    """A TREE that is so deep, with the next question behind each NO."""
+    tree = leaf
+    for _ in range(many - 1):
+        tree = ask(question, leaf, tree)
+    return tree
+
+
+# Tells "same" when the item is like the one ahead.
+NEIGHBOUR = one_state(
+    ask(("item", "last"), go((("word", "same"),)), go((), (("keep", "last"),))), None, ("same",), ("last",))
+
+NEIGHBOUR_FLOW = (("same",), (
+    (0, (((), 1, ()), ((), 2, (None,))), ("yes", ())),
+    (0, ((("same",), 1, ()), ((), 2, (None,))), ("yes", ())),
+    (1, (((), 1, ()), (("same",), 2, (0,)), ((), 2, (None,))), ("yes", ())),
+))
+
+# The same in other words: two states, another box, a needless box and a needless question.
+NEIGHBOUR_TOO = (
+    ("same",), ("spare", "x"), (
+        ("first", go((), (("keep", "x"), ("keep", "spare")), "later"), end()),
+        ("later", ask(("item", "x"),
+                      ask(("empty", "x"), go((), (), "first"), go((("word", "same"),), (), "later")),
+                      go((), (("keep", "x"), ("copy", "x", "spare")), "later")), end()),
+    ))
+
+# Keeps the first two unlike items, tells each item that is like one of them, and both at the end, in their order.
+FIRST_TWO = one_state(
+    ask(("empty", "a"), go((), (("keep", "a"),)),
+        ask(("item", "a"), go((("item",),)),
+            ask(("empty", "b"), go((), (("keep", "b"),)),
+                ask(("item", "b"), go((("item",),)), go())))),
+    end("yes", (("box", "a"), ("box", "b"))), (), ("a", "b"))
+
+
+def ring(many, word, words, refused=()):
+    """A FLOW without things that counts how often a WORD came, modulo many; it says "no" at some PLACES."""
+    places = []
+    for at in range(many):
+        turns = [((), (at + 1) % many if kind == word else at, ()) for kind in words]
+        places.append((0, (*turns, ((), at, ())), ("no" if at in refused else "yes", ())))
+    return words, tuple(places)
+
+
+def ring_machine(many, word, words, refused=()):
+    """The same as a MACHINE, of at most 80 STATES."""
+    names = ["s" + "abcdefghij"[at // 10] + "abcdefghij"[at % 10] for at in range(many)]
+    states = [(names[at],
+               ask(("word", word), go((), (), names[(at + 1) % many]), go((), (), names[at])),
+               end("no" if at in refused else "yes")) for at in range(many)]
+    return words, (), tuple(states)
+
+
+def wide_machine(rounds, sink):
+    """A MACHINE whose FLOW has 4 PLACES for each of its rounds, and one more if there is a sink."""
+    names = ["s" + "abcdefghij"[at // 10] + "abcdefghij"[at % 10] for at in range(rounds)]
+    states = []
+    for at, name in enumerate(names):
+        on = names[(at + 1) % rounds]
+        keep = (("keep", "x"),)
+        none = go((), (("empty", "x"),), name)
+        if sink and at == 0:
+            none = ask(("empty", "x"), go((), (), "sink"), none)
+        tree = ask(("word", "a"), go((), keep, name), ask(("word", "b"), go((), keep, name), ask(
+            ("word", "c"), none, go((), keep, on))))
+        states.append((name, tree, end()))
+    if sink:
+        states.append(("sink", go((), (), "sink"), end()))
+    return ("a", "b", "c"), ("x",), tuple(states)
+
+
+def plain_lists(words, many):
+    """All PLAIN LISTS of WORDS with at most so many items, the shorter ones ahead."""
+    layer = [((), 0)]
+    out = [()]
+    for _ in range(many):
+        layer = [((*items, item), max(fresh, item + 1) if isinstance(item, int) else fresh)
+                 for items, fresh in layer for item in [*words, *range(fresh + 1)]]
+        out.extend(items for items, _ in layer)
+    return out
+
+
+def summed(behaviour):
+    """All that is told, joined, and the VERDICT."""
+    rows, verdict, last = behaviour
+    return sum(rows, ()) + last, verdict
+
+
+def told_from(flow, place, held, items):
+    """What a FLOW tells of items from a PLACE on where the THINGS are held, by their names."""
+    words, places = flow
+    rows = []
+    for item in items:
+        many, turns, _ = places[place]
+        kinds = [*words, *held]
+        row, place, origins = turns[kinds.index(item) if item in kinds else len(words) + many]
+        rows.append(tuple(item if x is None else x if isinstance(x, str) else held[x] for x in row))
+        held = [item if x is None else held[x] for x in origins]
+    verdict, row = places[place][2]
+    return tuple(rows), verdict, tuple(x if isinstance(x, str) else held[x] for x in row)
+
+
+def small_machine(chance):
+    """Some MACHINE with at most two WORDS, BOXES and STATES."""
+    words = tuple(word for word in ("a", "b") if chance.random() < 0.5)
+    boxes = ("p", "q")[:chance.randint(0, 2)]
+    names = ("one", "two")[:chance.randint(1, 2)]
+
+    def question(of_item):
+        forms = []
+        if boxes:
+            forms += [("empty", chance.choice(boxes)), ("like", chance.choice(boxes), chance.choice(boxes))]
+        if boxes and of_item:
+            forms += [("item", chance.choice(boxes))] * 4
+        if boxes and words:
+            forms.append(("holds", chance.choice(boxes), chance.choice(words)))
+        if words and of_item:
+            forms += [("word", chance.choice(words))] * 2
+        return chance.choice(forms) if forms else None
+
+    def row(of_item):
+        forms = [("item",)] if of_item else []
+        forms += [("box", box) for box in boxes] + [("word", word) for word in words]
+        return tuple(chance.choice(forms) for _ in range(chance.choice((0, 0, 1, 1, 2))) if forms)
+
+    def deeds():
+        out = []
+        for box in boxes:
+            form = chance.choice((None, None, ("keep", box), ("copy", chance.choice(boxes), box), ("empty", box)))
+            out += [form] if form else []
+        return tuple(out)
+
+    def tree(of_item, deep):
+        asked = question(of_item) if deep < 3 and chance.random() < 0.6 else None
+        if asked:
+            return ask(asked, tree(of_item, deep + 1), tree(of_item, deep + 1))
+        if of_item:
+            return go(row(True), deeds(), chance.choice(names))
+        return end(chance.choice(("yes", "yes", "no")), row(False))
+
+    return words, boxes, tuple((name, tree(True, 1), tree(False, 1)) for name in names)
+
+
+def less_told(chance, machine):
+    """The MACHINE with a row or the DEEDS of some LEAF cut short."""
+    def cut(tree):
+        if tree[0] == "ask":
+            at = chance.choice((2, 3))
+            return tree[:at] + (cut(tree[at]),) + tree[at + 1:]
+        if tree[0] == "go":
+            return chance.choice((go(tree[2][1:], tree[1], tree[3]), go(tree[2], tree[1][1:], tree[3])))
+        return end(tree[1], tree[2][1:])
+
+    words, boxes, states = machine
+    at = chance.randrange(len(states))
+    name, item, ending = states[at]
+    item, ending = chance.choice(((cut(item), ending), (item, cut(ending))))
+    return words, boxes, states[:at] + ((name, item, ending),) + states[at + 1:]
+
+
+def machine_pairs(seed, many):
+    """Pairs of small MACHINES, the same ones for the same seed; many of them are almost the same."""
+    chance = random.Random(seed)
+    out = []
+    while len(out) < many:
+        one = small_machine(chance)
+        out.append((one, chance.choice((less_told(chance, one), less_told(chance, one), small_machine(chance)))))
+    return out
