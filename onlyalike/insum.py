@@ -27,15 +27,15 @@ class Sums(Joints):
         return verdict == other_verdict and told + last == other_told + other_last
 
     def joint_behind(self, joint, holds, item):
-        """The JOINT to which one comes by an item; None if a list that ends there is a PARTING IN SUM."""
+        """The JOINT to which one comes by an item; None if unlike things are told when the list ends there."""
         told, other_told = self.ahead_at(joint, holds)
         row, p, held = turned(self.words, self.places[joint[0]], holds[0], item)
         other_row, q, other_held = turned(self.words, self.other_places[joint[1]], holds[1], item)
         told = told + row
         other_told = other_told + other_row
-        verdict, last = ended(self.places[p], held)
-        other_verdict, other_last = ended(self.other_places[q], other_held)
-        if verdict != other_verdict or told + last != other_told + other_last:
+        _, last = ended(self.places[p], held)
+        _, other_last = ended(self.other_places[q], other_held)
+        if told + last != other_told + other_last:
             return None
         return p, q, link_between(held, other_held), len(told) - len(other_told)
 

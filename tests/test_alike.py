@@ -207,8 +207,11 @@ class Flows(unittest.TestCase):
         # By lists of fewer than N items one comes to N * (N + 1) / 2 JOINTS: 19,900 for 199, and 20,100 for 200.
         words = ("a", "b")
         self.assertEqual(flows_parting(ring(220, "a", words, (199,)), ring(230, "b", words)), ("a",) * 199)
-        with self.assertRaises(TooMany):
-            flows_parting(ring(220, "a", words, (200,)), ring(230, "b", words))
+        # The last JOINT of its layer parts here: those behind the ones ahead of it do not count.
+        self.assertEqual(flows_parting(ring(220, "b", words, (199,)), ring(230, "a", words)), ("b",) * 199)
+        for word, other_word in (("a", "b"), ("b", "a")):
+            with self.assertRaises(TooMany):
+                flows_parting(ring(220, word, words, (200,)), ring(230, other_word, words))
 
     def test_too_many_joints_of_machines(self):
         def counts(word, refused=()):

@@ -77,6 +77,8 @@ class Forms(unittest.TestCase):
             self.refused(((), (place,)), (1, 0))
         self.refused(((), ((1, (STAY, STAY), YES),)), (1, 0))
         self.refused(((), ((False, (STAY,), YES),)), (1, 0))
+        kept = ((), 0, (0,))
+        self.refused(((), ((1, (kept, kept), YES),)), (1, 0))
 
     def test_many_is_due_ahead_of_all_else(self):
         self.refused(((), ((0, None, None), (17, (), ()))), (1, 1))
@@ -362,6 +364,10 @@ class Leaves(unittest.TestCase):
         left = ask(("word", "a"), ask(("word", "b"), go(), go()), ask(("word", "b"), go(), go()))
         machine = one_state(ask(("empty", "x"), left, go()), None, ("a", "b"), ("x",))
         self.assertEqual(leaves_met(machine), (((1, 2, 3), (0,)),))
+        three = ask(("word", "a"), ask(("word", "b"), go(), go()), go())
+        for yes, first in ((three, 3), (ask(("word", "a"), go(), three), 4), (ask(("word", "a"), three, go()), 4), (go(), 1)):
+            machine = one_state(ask(("like", "x", "x"), yes, ask(("empty", "x"), go(), go())), None, ("a", "b"), ("x",))
+            self.assertEqual(leaves_met(machine), (((first,), (0,)),))
 
 
 if __name__ == "__main__":

@@ -200,10 +200,11 @@ class Papers(unittest.TestCase):
 
     def test_a_bad_machine_is_due_first(self):
         for thing in wrong_things():
-            with self.assertRaises(BadMachine):
-                check_within(thing, None, None)
-            with self.assertRaises(BadMachine):
-                check_within(ALL, thing, None)
+            for one, other, place in ((thing, ((), None, None), ()), (thing, ALL, ()), (ALL, thing, ()),
+                                      (((), thing, None), None, (1,))):
+                with self.assertRaises(BadMachine) as caught:
+                    check_within(one, other, None)
+                self.assertEqual(caught.exception.place, place)
 
     def test_too_many_places_behind_the_form_and_not_for_a_list(self):
         wide = wide_machine(76, False)
