@@ -1,10 +1,10 @@
 """FLOWS: what one is by its form, how it goes through a LIST, and the FLOW of a MACHINE."""
 
-from onlyalike.errors import BadFlow, BadWords, TooMany
-from onlyalike.machines import VERDICTS, end_of, holds_of, is_so, kept_things, need_machine, step_of, trees_of
+from onlyalike.errors import BadFlow, BadWords
+from onlyalike.growth import MOST_PLACES, Growth, Program, items_of
+from onlyalike.machines import VERDICTS, end_of, is_so, need_machine, step_of, trees_of
 from onlyalike.things import MOST_WORDS, are_words, is_integer, is_number, is_one_of, is_tuple_of, need_list
 
-MOST_PLACES = 300
 MOST_MANY = 16
 MOST_ROW = 81
 
@@ -149,9 +149,8 @@ def place_behind(flow, things):
     return number
 
 
-def ways_to(flow):
-    """The tuple of the WAYs to the PLACES of a FLOW, None of one to which none leads."""
-    need_flow(flow)
+def ways_met(flow):
+    """The WAY to each PLACE that is MET, by its number, in the order in which one first meets them."""
     words, places = flow
     ways = {0: ()}
     holds = {0: []}
@@ -168,67 +167,48 @@ def ways_to(flow):
                 holds[following] = kept
                 order.append(following)
         at += 1
-    return tuple([ways.get(number) for number in range(len(places))])
+    return ways
 
 
-class Layout:
-    """The PATTERNS of a MACHINE over WORDS, in the order in which one first meets them, and their PLACES."""
+def ways_to(flow):
+    """The tuple of the WAYs to the PLACES of a FLOW, None of one to which none leads."""
+    need_flow(flow)
+    ways = ways_met(flow)
+    return tuple([ways.get(number) for number in range(len(flow[1]))])
+
+
+class Boxes(Program):
+    """A MACHINE over WORDS: its STATES are the labels, and what its boxes hold is held."""
 
     def __init__(self, machine, words):
-        first = (machine[2][0][0], (None,) * len(machine[1]))
-        self.words = words
+        super().__init__(words, machine[2][0][0], (None,) * len(machine[1]))
         self.boxes = machine[1]
         self.trees = trees_of(machine)
-        self.patterns = [first]
-        self.numbers = {first: 0}
 
-    def number_of(self, pattern):
-        """The number of the PLACE of a PATTERN, which may be a new one."""
-        if pattern not in self.numbers:
-            if len(self.patterns) == MOST_PLACES:
-                raise TooMany(MOST_PLACES)
-            self.numbers[pattern] = len(self.patterns)
-            self.patterns.append(pattern)
-        return self.numbers[pattern]
+    def boxes_with(self, held):
+        """What each box holds."""
+        return dict(zip(self.boxes, held))
 
-    def many_at(self, pattern):
-        """How many THINGS are kept at a PATTERN."""
-        return len(kept_things(self.words, pattern[1]))
+    def step(self, label, held, item):
+        """What is told at an item, the STATE behind it, and what the boxes hold there."""
+        row, following, boxes = step_of(self.trees, label, self.boxes_with(held), item)
+        return row, following, [boxes[box] for box in self.boxes]
 
-    def items_at(self, pattern):
-        """An item of each KIND, the one of NEW being the number behind those of the THINGS."""
-        return [*self.words, *list(range(self.many_at(pattern) + 1))]
-
-    def boxes_at(self, pattern):
-        """What each box holds, THINGS being their numbers."""
-        return dict(zip(self.boxes, pattern[1]))
-
-    def turn_at(self, pattern, item):
-        """The TURN for an item."""
-        row, following, boxes = step_of(self.trees, pattern[0], self.boxes_at(pattern), item)
-        held = [boxes[box] for box in self.boxes]
-        number = self.number_of((following, holds_of(self.words, held)))
-        new = self.many_at(pattern)
-        told = tuple([None if part == new else part for part in row])
-        return told, number, tuple([None if part == new else part for part in kept_things(self.words, held)])
-
-    def place_at(self, pattern):
-        """The PLACE of a PATTERN."""
-        turns = tuple([self.turn_at(pattern, item) for item in self.items_at(pattern)])
-        return self.many_at(pattern), turns, end_of(self.trees, pattern[0], self.boxes_at(pattern))
-
-    def all_places(self):
-        """The PLACES of all PATTERNS."""
-        places = []
-        while len(places) < len(self.patterns):
-            places.append(self.place_at(self.patterns[len(places)]))
-        return tuple(places)
+    def end(self, label, held):
+        """VERDICT and row of a list that ends here."""
+        return end_of(self.trees, label, self.boxes_with(held))
 
 
 def machine_flow(machine, words):
     """The FLOW of a MACHINE over WORDS that have at least its own."""
-    layout = Layout(machine, words)
-    return words, layout.all_places()
+    return words, Growth(Boxes(machine, words), MOST_PLACES).all_places()
+
+
+def patterns_met(machine):
+    """The PATTERNS of a MACHINE as one first meets them, and the FLOW that has a PLACE for each."""
+    growth = Growth(Boxes(machine, machine[0]), MOST_PLACES)
+    places = growth.all_places()
+    return growth.patterns, (machine[0], places)
 
 
 def flow_of(machine):
@@ -248,9 +228,8 @@ def flow_over(machine, words):
 def patterns_of(machine):
     """The tuple of the PATTERNS of the PLACES of the FLOW of a MACHINE."""
     need_machine(machine)
-    layout = Layout(machine, machine[0])
-    layout.all_places()
-    return tuple(layout.patterns)
+    patterns, _ = patterns_met(machine)
+    return tuple(patterns)
 
 
 def count_leaves(tree):
@@ -275,14 +254,13 @@ def leaf_number(tree, boxes, item):
 def leaves_met(machine):
     """For each of STATES the numbers of the LEAVES of its ITEM, and of its END, to which some LIST leads."""
     need_machine(machine)
-    layout = Layout(machine, machine[0])
-    layout.all_places()
-    items = {name: [] for name in layout.trees}
-    ends = {name: [] for name in layout.trees}
-    for pattern in layout.patterns:
-        name = pattern[0]
-        of_item, of_end = layout.trees[name]
-        boxes = layout.boxes_at(pattern)
-        items[name].extend([leaf_number(of_item, boxes, item) for item in layout.items_at(pattern)])
+    patterns, _ = patterns_met(machine)
+    trees = trees_of(machine)
+    items = {name: [] for name in trees}
+    ends = {name: [] for name in trees}
+    for name, holds in patterns:
+        of_item, of_end = trees[name]
+        boxes = dict(zip(machine[1], holds))
+        items[name].extend([leaf_number(of_item, boxes, item) for item in items_of(machine[0], holds)])
         ends[name].append(leaf_number(of_end, boxes, None))
-    return tuple([(tuple(sorted(set(items[name]))), tuple(sorted(set(ends[name])))) for name in layout.trees])
+    return tuple([(tuple(sorted(set(items[name]))), tuple(sorted(set(ends[name])))) for name in trees])

@@ -1,7 +1,8 @@
-"""JOINTS of two FLOWS with the same WORDS, and a shortest way to one that is not GOOD."""
+"""JOINTS of two FLOWS with the same WORDS, side by side."""
 
-from onlyalike.errors import TooMany
-from onlyalike.flows import MOST_MANY, MOST_PLACES, ended, machine_flow, turned
+from onlyalike.flows import MOST_MANY, ended, machine_flow, turned
+from onlyalike.growth import MOST_PLACES
+from onlyalike.search import Search
 from onlyalike.things import is_ascending, is_list, is_number, is_one_of, is_tuple_of
 
 MOST_JOINTS = 20000
@@ -96,18 +97,14 @@ def whole_way(one, other, start, items):
     return tuple(out)
 
 
-class Joints:
+class Joints(Search):
     """Two FLOWS with the same WORDS, side by side, and a search through their JOINTS; GOOD as for ALIKE."""
 
     def __init__(self, one, other):
+        super().__init__()
         self.words = one[0]
         self.places = one[1]
         self.other_places = other[1]
-        # JOINTS from which one comes to none that is not GOOD.
-        self.settled = {}
-        # The JOINTS that a search has come to, and for each the index of the one ahead and the item there.
-        self.met = []
-        self.steps_back = []
 
     def are_rows_good(self, row, other_row):
         """Whether what both tell at an item lets a JOINT be GOOD."""
@@ -136,64 +133,12 @@ class Joints:
             return None
         return p, q, link_between(held, other_held)
 
-    def joints_behind(self, joint):
+    def nodes_behind(self, joint):
         """For each KIND a pair of an item, in COMMON NUMBERS, and the JOINT to which one comes by it, or None."""
         holds = self.holds_at(joint)
         both = all_held(holds[0], holds[1])
         items = [*self.words, *both, len(both)]
         return [(item, self.joint_behind(joint, holds, item)) for item in items]
-
-    def way_back(self, at, item):
-        """The items by which one came to the JOINT with this index, and one more."""
-        items = [item]
-        while at > 0:
-            at, ahead = self.steps_back[at]
-            items.append(ahead)
-        items.reverse()
-        return items
-
-    def is_faulty(self, joint):
-        """Whether what was come to newly is not GOOD: None stands for rows that are not."""
-        return joint is None or not self.is_end_good(joint)
-
-    def faulty_way(self, start):
-        """The items of a shortest way to what is not GOOD, each in COMMON NUMBERS of its JOINT, or None."""
-        self.met = [start]
-        self.steps_back = [(0, 0)]
-        seen = {start: True}
-        if self.is_faulty(start):
-            return []
-        at = 0
-        layer_end = 0
-        while at < len(self.met):
-            # Only here it is known that no way to a fault is as short as those to the JOINTS that are met.
-            if at == layer_end:
-                layer_end = len(self.met)
-                if layer_end > MOST_JOINTS:
-                    raise TooMany(MOST_JOINTS)
-            behind = self.joints_behind(self.met[at])
-            for item, joint in behind:
-                if joint in seen or joint in self.settled:
-                    continue
-                if self.is_faulty(joint):
-                    return self.way_back(at, item)
-                # One too many is enough to be told, at the end of the layer.
-                if len(self.met) <= MOST_JOINTS:
-                    seen[joint] = True
-                    self.met.append(joint)
-                    self.steps_back.append((at, item))
-            at += 1
-        return None
-
-    def is_fine(self, start):
-        """Whether one comes from a JOINT to none that is not GOOD; what is learned is kept."""
-        if start in self.settled:
-            return True
-        if self.faulty_way(start) is not None:
-            return False
-        for joint in self.met:
-            self.settled[joint] = True
-        return True
 
     def has_joint(self, joint):
         """Whether the FLOWS have the PLACES and THINGS of a JOINT."""
@@ -208,7 +153,7 @@ class Joints:
         if FIRST_JOINT not in lot or not all([self.has_joint(joint) for joint in joints]):
             return False
         for joint in joints:
-            behind = [following for _, following in self.joints_behind(joint)]
+            behind = [following for _, following in self.nodes_behind(joint)]
             if not self.is_end_good(joint) or not all([following in lot for following in behind]):
                 return False
         return True
