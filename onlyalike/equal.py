@@ -64,13 +64,17 @@ def one_to_one(ones, others):
     return links
 
 
+def match_links(joints, p, q):
+    """The MATCHes of two PLACES, ascending."""
+    ones = few_needed(joints, p)
+    others = few_needed(joints, q)
+    if len(ones) != len(others):
+        return []
+    return [link for link in one_to_one(ones, others) if joints.is_fine((p, q, link))]
+
+
 def matches(flow, p, q):
     """The ascending tuple of the MATCHes of two PLACES."""
     need_place(flow, p)
     need_place(flow, q)
-    joints = Joints(flow, flow)
-    ones = few_needed(joints, p)
-    others = few_needed(joints, q)
-    if len(ones) != len(others):
-        return ()
-    return tuple([link for link in one_to_one(ones, others) if joints.is_fine((p, q, link))])
+    return tuple(match_links(Joints(flow, flow), p, q))

@@ -16,6 +16,9 @@ class Plain:
     """An object without anything."""
 
 
+YES = ("yes", ())
+
+
 def wrong_things():
     """Things of many kinds; none of them is an integer, a string or a tuple."""
     return [True, False, None, b"a", [], [1], {}, {"a": 1}, set(), {1}, frozenset(), len, lambda: 1, Plain(), Agrees(),
@@ -111,6 +114,42 @@ def wide_machine(rounds, sink):
     return ("a", "b", "c"), ("x",), tuple(states)
 
 
+def slow_rings(machine_words=("a", "b")):
+    """A MACHINE that keeps the first item, and behind the second one goes through one ring of PLACES or another one.
+
+    What it tells is never otherwise, but one needs 140 times 152 JOINTS to see this.
+    """
+    def ring_states(letter, word, many):
+        names = [letter + "abcdefghij"[at // 10] + "abcdefghij"[at % 10] for at in range(many)]
+        states = []
+        for at, name in enumerate(names):
+            on = go((), (("empty", "y"), ("empty", "z")), names[(at + 1) % many])
+            third = ask(("empty", "y"), go((), (("keep", "y"),), name), on)
+            tree = ask(("empty", "z"), ask(("empty", "y"), go((), (("keep", "y"),), name), go(
+                (), (("empty", "y"), ("keep", "z")), name)), third)
+            states.append((name, ask(("word", word), tree, go((), (), name)), end()))
+        return states
+
+    gone = (("empty", "x"),)
+    return machine_words, ("x", "y", "z"), (
+        ("first", ask(("word", "a"), go((), (), "first"), ask(("word", "b"), go((), (), "first"), go(
+            (), (("keep", "x"),), "second"))), end()),
+        ("second", ask(("item", "x"), go((), gone, "oaa"), go((), gone, "taa")), end()),
+        *ring_states("o", "a", 35), *ring_states("t", "b", 38))
+
+
+def asks(many, told):
+    """A FLOW that keeps so many things, the first unlike ones, and tells "w" of those whose number is told so."""
+    places = []
+    for kept in range(many + 1):
+        same = tuple(range(kept))
+        turns = [((), kept, same)]
+        turns += [((("w",) if kept == many and at in told else ()), kept, same) for at in range(kept)]
+        turns.append(((), kept + 1, (*same, None)) if kept < many else ((), kept, same))
+        places.append((kept, tuple(turns), YES))
+    return ("w",), tuple(places)
+
+
 def plain_lists(words, many):
     """All PLAIN LISTS of WORDS with at most so many items, the shorter ones ahead."""
     layer = [((), 0)]
@@ -118,6 +157,16 @@ def plain_lists(words, many):
     for _ in range(many):
         layer = [((*items, item), max(fresh, item + 1) if isinstance(item, int) else fresh)
                  for items, fresh in layer for item in [*words, *range(fresh + 1)]]
+        out.extend(items for items, _ in layer)
+    return out
+
+
+def going_ons(words, known, most):
+    """All tuples of at most so many WORDS, numbers below known, and further numbers by first coming."""
+    layer = [((), known)]
+    out = [()]
+    for _ in range(most):
+        layer = [((*items, item), fresh + (item == fresh)) for items, fresh in layer for item in [*words, *range(fresh + 1)]]
         out.extend(items for items, _ in layer)
     return out
 
@@ -198,6 +247,78 @@ def less_told(chance, machine):
     name, item, ending = states[at]
     item, ending = chance.choice(((cut(item), ending), (item, cut(ending))))
     return words, boxes, states[:at] + ((name, item, ending),) + states[at + 1:]
+
+
+def small_flow(chance, most_places=5, most_many=2):
+    """Some FLOW, also with PLACES to which none leads, and with THINGS that are not NEEDED."""
+    words = tuple(word for word in ("a", "b") if chance.random() < 0.4)
+    many = [0] + [chance.randint(0, most_many) for _ in range(chance.randint(0, most_places - 1))]
+
+    def row(kept, new):
+        parts = [*words, *range(kept), *([None, None] if new else [])]
+        return tuple(chance.choice(parts) for _ in range(chance.choice((0, 0, 0, 1, 2))) if parts)
+
+    def turn(kept, new):
+        sources = [*range(kept), *([None] if new else [])]
+        number = chance.choice([at for at, size in enumerate(many) if size <= len(sources)])
+        return row(kept, new), number, tuple(chance.sample(sources, many[number]))
+
+    def place(kept):
+        turns = [turn(kept, False) for _ in range(len(words) + kept)]
+        for at in range(len(turns)):
+            # Many of them like one another, so that some THINGS and PLACES are of no account.
+            if chance.random() < 0.5:
+                turns[at] = chance.choice(turns)
+        return kept, (*turns, turn(kept, True)), (chance.choice(("yes", "yes", "no")), row(kept, False))
+
+    return words, tuple(place(kept) for kept in many)
+
+
+def shuffled(chance, flow, more=0):
+    """The same FLOW with its PLACES, but for the first one, and their THINGS in some other order.
+
+    Each of the other PLACES keeps up to so many more THINGS, that are of no account, and stands there twice.
+    """
+    words, places = flow
+    copies = [(0, 0)] + [(p, which) for p in range(1, len(places)) for which in range(2 if more else 1)]
+    tail = copies[1:]
+    chance.shuffle(tail)
+    copies = [copies[0], *tail]
+    sizes = [places[p][0] + (chance.randint(0, more) if at else 0) for at, (p, _) in enumerate(copies)]
+    names = [chance.sample(range(size), places[p][0]) for size, (p, _) in zip(sizes, copies)]
+
+    def turn(at, old, kind):
+        row, following, origins = old
+        number = chance.choice([n for n, (p, _) in enumerate(copies) if p == following])
+        used = [None if x is None else names[at][x] for x in origins]
+        spare = [x for x in [*range(sizes[at]), *([None] if kind is None else [])] if x not in used]
+        chance.shuffle(spare)
+        out = [None] * sizes[number]
+        for x in range(sizes[number]):
+            out[x] = used[names[number].index(x)] if x in names[number] else (spare.pop() if spare else "short")
+        if "short" in out:
+            return None
+        return tuple(x if x is None or isinstance(x, str) else names[at][x] for x in row), number, tuple(out)
+
+    new = []
+    for at, (p, _) in enumerate(copies):
+        many, turns, (verdict, last) = places[p]
+        made = [turn(at, old, "word") for old in turns[:len(words)]]
+        for x in range(sizes[at]):
+            if x in names[at]:
+                made.append(turn(at, turns[len(words) + names[at].index(x)], "thing"))
+            else:
+                # It turns as NEW does, but that what is told, or kept, is this THING.
+                told = turn(at, turns[-1], None)
+                made.append(told and (tuple(x if y is None else y for y in told[0]), told[1],
+                                      tuple(x if y is None else y for y in told[2])))
+                if made[-1] and len(set(made[-1][2])) < len(made[-1][2]):
+                    made[-1] = None
+        made.append(turn(at, turns[-1], None))
+        if None in made:
+            return shuffled(chance, flow, more)
+        new.append((sizes[at], tuple(made), (verdict, tuple(x if isinstance(x, str) else names[at][x] for x in last))))
+    return words, tuple(new)
 
 
 def machine_pairs(seed, many):

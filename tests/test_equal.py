@@ -7,7 +7,7 @@ import unittest
 from onlyalike.equal import going_on, is_equal, matches, need_link, need_place
 from onlyalike.errors import BadFlow, BadLink, BadPlace, TooMany
 from onlyalike.flows import flow_of
-from made import Agrees, machine_pairs, ring, told_from, wrong_things
+from made import Agrees, asks, going_ons, machine_pairs, ring, told_from, wrong_things
 
 YES = ("yes", ())
 STILL = (((), 0, ()),)
@@ -23,33 +23,11 @@ TELLS = (("w",), (
 ))
 
 
-def asks(many, told):
-    """A FLOW that keeps so many things, the first unlike ones, and tells "w" of those whose number is told so."""
-    places = []
-    for kept in range(many + 1):
-        same = tuple(range(kept))
-        turns = [((), kept, same)]
-        turns += [((("w",) if kept == many and at in told else ()), kept, same) for at in range(kept)]
-        turns.append(((), kept + 1, (*same, None)) if kept < many else ((), kept, same))
-        places.append((kept, tuple(turns), YES))
-    return ("w",), tuple(places)
-
-
 def all_links(many, other_many):
     for size in range(min(many, other_many) + 1):
         for ones in itertools.combinations(range(many), size):
             for others in itertools.permutations(range(other_many), size):
                 yield tuple(zip(ones, others))
-
-
-def going_ons(words, known, most):
-    """All tuples of at most so many WORDS, numbers below known, and further numbers by first coming."""
-    layer = [((), known)]
-    out = [()]
-    for _ in range(most):
-        layer = [((*items, item), fresh + (item == fresh)) for items, fresh in layer for item in [*words, *range(fresh + 1)]]
-        out.extend(items for items, _ in layer)
-    return out
 
 
 def common_names(flow, p, q, link):

@@ -24,6 +24,12 @@ INTERFACE = {
                   "check_within(one, other, paper)"],
     "equal.py": ["need_place(flow, thing)", "need_link(flow, p, q, thing)", "is_equal(flow, p, q, link)",
                  "going_on(flow, p, q, link)", "matches(flow, p, q)"],
+    "needed.py": ["needed_at(flow, p)", "need_of(machine)", "needed_behind(machine, things)"],
+    "least.py": ["classes_of(flow)", "least_flow(flow)", "tidy(flow)", "same_class(machine, things, other)"],
+    "needless.py": ["unmet(machine)", "settled(machine)", "unused(machine)", "idle(machine)", "dead_places(flow)",
+                    "cleaned(machine)"],
+    "keeppapers.py": ["need_paper(machine)", "check_need(machine, paper)", "classes_paper(machine)",
+                      "check_classes(machine, paper)"],
 }
 BUILTINS = set("""len range enumerate zip min max sum abs sorted reversed int str bool bytes list tuple dict set frozenset
 isinstance ord repr any all divmod pow super ValueError KeyError OverflowError TypeError""".split())
