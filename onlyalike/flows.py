@@ -1,12 +1,11 @@
 """FLOWS: what one is by its form, how it goes through a LIST, and the FLOW of a MACHINE."""
 
 from onlyalike.errors import BadFlow, BadWords
-from onlyalike.growth import MOST_PLACES, Growth, Program, items_of
+from onlyalike.growth import MOST_PLACES, MOST_ROW, Growth, Program, items_of
 from onlyalike.machines import VERDICTS, end_of, is_so, need_machine, step_of, trees_of
 from onlyalike.things import MOST_WORDS, are_words, is_integer, is_number, is_one_of, is_tuple_of, need_list
 
 MOST_MANY = 16
-MOST_ROW = 81
 
 
 def is_told(part, words, many, is_new):

@@ -4,6 +4,7 @@ from onlyalike.errors import TooMany
 from onlyalike.machines import holds_of, kept_things
 
 MOST_PLACES = 300
+MOST_ROW = 81
 
 
 def items_of(words, holds):
@@ -53,14 +54,16 @@ class Growth:
         """The TURN for an item, new being the number behind those of the THINGS."""
         row, label, held = self.program.step(pattern[0], pattern[1], item)
         number = self.number_of((label, holds_of(self.words, held)))
-        told = tuple([None if part == new else part for part in row])
+        # What is too long a row is seen by one part too many.
+        told = tuple([None if part == new else part for part in row[:MOST_ROW + 1]])
         return told, number, tuple([None if part == new else part for part in kept_things(self.words, held)])
 
     def place_at(self, pattern):
         """The PLACE of a PATTERN."""
         many = len(kept_things(self.words, pattern[1]))
         turns = tuple([self.turn_at(pattern, item, many) for item in items_of(self.words, pattern[1])])
-        return many, turns, self.program.end(pattern[0], pattern[1])
+        verdict, row = self.program.end(pattern[0], pattern[1])
+        return many, turns, (verdict, row[:MOST_ROW + 1])
 
     def all_places(self):
         """The PLACES of all PATTERNS."""

@@ -44,8 +44,8 @@ class Least:
         image = self.classes.images[following]
         # Whence each THING comes of the first PLACE of the CLASS.
         sources = [LAST] * len(image)
-        for thing, source in enumerate(origins):
-            sources[image[thing]] = LAST if source is None else own.index(source)
+        for at, source in enumerate(origins):
+            sources[image[at]] = LAST if source is None else own.index(source)
         number = self.number_of(self.classes.firsts[following], sources)
         order = self.orders[number]
         least = min([[sources[change[thing]] for thing in order] for change in self.changes[number]])

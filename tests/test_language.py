@@ -30,6 +30,14 @@ INTERFACE = {
                     "cleaned(machine)"],
     "keeppapers.py": ["need_paper(machine)", "check_need(machine, paper)", "classes_paper(machine)",
                       "check_classes(machine, paper)"],
+    "conditions.py": ["need_condition(thing)", "does_hold(condition, things)", "kept_by_form(condition)",
+                      "words_of_condition(condition)", "compile_condition(condition)"],
+    # The document calls the first argument of the last two "filter", which LANGUAGE.md bars as a name.
+    "filters.py": ["need_filter(thing)", "sift_list(sieve, things)", "make_filter(sieve)"],
+    "verdicts.py": ["flow_both(one, other)", "flow_either(one, other)", "flow_without(one, other)", "flow_turned(flow)",
+                    "first_with(flow, verdict)", "same_verdicts(one, other)", "unlike_verdicts(one, other)"],
+    "pipes.py": ["need_pipe(thing)", "run_pipe(pipe, things)", "pipe_as_flow(pipe)", "may_turn_stages(pipe)",
+                 "needless_stages(pipe)"],
 }
 BUILTINS = set("""len range enumerate zip min max sum abs sorted reversed int str bool bytes list tuple dict set frozenset
 isinstance ord repr any all divmod pow super ValueError KeyError OverflowError TypeError""".split())
