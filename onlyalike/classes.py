@@ -1,8 +1,9 @@
 """The CLASSES of the PLACES of a FLOW that are MET, and a FLOW without what is not NEEDED."""
 
-from onlyalike.equal import few_needed, one_to_one
+from onlyalike.equal import one_to_one
 from onlyalike.flows import ways_met
 from onlyalike.joints import Joints
+from onlyalike.needs import Needs
 
 
 def mark_of(row, own):
@@ -98,10 +99,10 @@ class Classes:
     """
 
     def __init__(self, flow):
-        joints = Joints(flow, flow)
+        needs = Needs(flow)
         # The numbers that the PLACES, and the THINGS of each, have in the FLOW.
         self.order = list(ways_met(flow))
-        self.needed = [few_needed(joints, p) for p in self.order]
+        self.needed = [needs.few_at(p) for p in self.order]
         self.flow = slim_flow(flow, self.order, self.needed)
         self.joints = Full(self.flow, self.flow)
         # For each PLACE the one of its CLASS that is met first, and the THING of that for each of its own.

@@ -1,11 +1,10 @@
 """PLACES of a FLOW that are EQUAL UNDER a LINK, a GOING ON that tells them apart, and their MATCHes."""
 
-from onlyalike.errors import BadLink, BadPlace, TooMany
+from onlyalike.errors import BadLink, BadPlace
 from onlyalike.flows import need_flow
 from onlyalike.joints import Joints, is_link, whole_way
+from onlyalike.needs import Needs
 from onlyalike.things import is_number
-
-MOST_NEEDED = 5
 
 
 def need_place(flow, thing):
@@ -37,21 +36,6 @@ def is_equal(flow, p, q, link):
     return going_on(flow, p, q, link) is None
 
 
-def needed_things(joints, p):
-    """The numbers of the THINGS that are NEEDED at a PLACE, by the JOINTS of a FLOW with itself."""
-    many = list(range(joints.places[p][0]))
-    links = [tuple([(at, at) for at in many if at != left]) for left in many]
-    return [left for left in many if not joints.is_fine((p, p, links[left]))]
-
-
-def few_needed(joints, p):
-    """The same; TooMany if they are too many to be put in all orders."""
-    needed = needed_things(joints, p)
-    if len(needed) > MOST_NEEDED:
-        raise TooMany(MOST_NEEDED)
-    return needed
-
-
 def one_to_one(ones, others):
     """All LINKS of all of the ones with as many others, ascending."""
     links = [()]
@@ -64,17 +48,17 @@ def one_to_one(ones, others):
     return links
 
 
-def match_links(joints, p, q):
-    """The MATCHes of two PLACES, ascending."""
-    ones = few_needed(joints, p)
-    others = few_needed(joints, q)
+def match_links(needs, p, q):
+    """The MATCHes of two PLACES, ascending, by what is NEEDED in their FLOW."""
+    ones = needs.few_at(p)
+    others = needs.few_at(q)
     if len(ones) != len(others):
         return []
-    return [link for link in one_to_one(ones, others) if joints.is_fine((p, q, link))]
+    return [link for link in one_to_one(ones, others) if needs.joints.is_fine((p, q, link))]
 
 
 def matches(flow, p, q):
     """The ascending tuple of the MATCHes of two PLACES."""
     need_place(flow, p)
     need_place(flow, q)
-    return tuple(match_links(Joints(flow, flow), p, q))
+    return tuple(match_links(Needs(flow), p, q))

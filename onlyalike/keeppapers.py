@@ -1,12 +1,13 @@
 """PAPERS on how many THINGS, and how many PLACES, each MACHINE that is ALIKE must have; and their check."""
 
 from onlyalike.classes import Classes
-from onlyalike.equal import few_needed, one_to_one
+from onlyalike.equal import one_to_one
 from onlyalike.errors import BadPaper, TooMany
 from onlyalike.flows import flow_through, machine_flow, ways_met
 from onlyalike.joints import Joints, whole_way
 from onlyalike.machines import end_of, gone_through, need_machine, step_of, trees_of
 from onlyalike.needed import needed_of_all
+from onlyalike.needs import Needs
 from onlyalike.things import is_ascending, is_integer, is_one_of, is_plain_list, is_tuple_of
 
 MOST_BEHIND = 20000
@@ -186,11 +187,11 @@ def needed_numbers(flow, lists):
     """The numbers that are NEEDED behind each of LISTS; TooMany if they are too many to be put in all orders."""
     if len(lists) < 2:
         return []
-    joints = Joints(flow, flow)
+    needs = Needs(flow)
     out = []
     for items in lists:
         _, p, held = flow_through(flow, items)
-        out.append([held[thing] for thing in few_needed(joints, p)])
+        out.append([held[thing] for thing in needs.few_at(p)])
     return out
 
 

@@ -4,8 +4,8 @@ from onlyalike.classes import Classes
 from onlyalike.equal import match_links
 from onlyalike.errors import TooMany
 from onlyalike.flows import flow_through, machine_flow, need_flow
-from onlyalike.joints import Joints
 from onlyalike.machines import MOST_BOXES, MOST_OWN_WORDS, MOST_STATES, MOST_TOLD, need_machine
+from onlyalike.needs import Needs
 from onlyalike.things import need_list
 
 LETTERS = "abcdefghij"
@@ -97,7 +97,7 @@ def same_class(machine, things, other):
     flow = machine_flow(machine, machine[0])
     _, p, _ = flow_through(flow, things)
     _, q, _ = flow_through(flow, other)
-    return len(match_links(Joints(flow, flow), p, q)) > 0
+    return len(match_links(Needs(flow), p, q)) > 0
 
 
 def need_few(many, most):

@@ -39,8 +39,8 @@ class Search:
         items.reverse()
         return items
 
-    def faulty_way(self, start):
-        """The items of a shortest way to what is not GOOD, each as it is where it comes, or None.
+    def faulty_way(self, start, most=MOST_MET):
+        """The items of a shortest way to what is not GOOD, each as it is where it comes, or None; TooMany beyond most.
 
         Once is_fine was asked, a way may end at what is only known to lead on to what is not GOOD.
         """
@@ -56,8 +56,8 @@ class Search:
             # Only here it is known that no way to a fault is as short as those to what is met.
             if at == layer_end:
                 layer_end = len(self.met)
-                if layer_end > MOST_MET:
-                    raise TooMany(MOST_MET)
+                if layer_end > most:
+                    raise TooMany(most)
             behind = self.nodes_behind(self.met[at])
             for item, node in behind:
                 if node in seen or node in self.settled:
@@ -66,18 +66,18 @@ class Search:
                     self.last_at = at
                     return self.way_back(at, item)
                 # One too many is enough to be told, at the end of the layer.
-                if len(self.met) <= MOST_MET:
+                if len(self.met) <= most:
                     seen[node] = True
                     self.met.append(node)
                     self.steps_back.append((at, item))
             at += 1
         return None
 
-    def is_fine(self, start):
-        """Whether one comes to nothing that is not GOOD; what is learned is kept."""
+    def is_fine(self, start, most=MOST_MET):
+        """Whether one comes to nothing that is not GOOD; what is learned is kept. TooMany beyond most."""
         if start in self.settled:
             return True
-        if self.faulty_way(start) is None:
+        if self.faulty_way(start, most) is None:
             for node in self.met:
                 self.settled[node] = True
             return True

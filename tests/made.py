@@ -249,6 +249,27 @@ def less_told(chance, machine):
     return words, boxes, states[:at] + ((name, item, ending),) + states[at + 1:]
 
 
+def first_ones(many):
+    """A FLOW that keeps so many items if they are unlike, tells all items, and says "yes" if the last one is one of these."""
+    gone = many + 2
+    places = []
+    for kept in range(many):
+        same = tuple(range(kept))
+        places.append((kept, tuple(((at,), gone, ()) for at in same) + (((None,), kept + 1, (*same, None)),), ("no", ())))
+    same = tuple(range(many))
+    turns = tuple(((at,), many + 1, same) for at in same) + (((None,), many, same),)
+    places += [(many, turns, ("no", ())), (many, turns, ("yes", ())), (0, (((None,), gone, ()),), ("no", ()))]
+    return (), tuple(places)
+
+
+def one_behind(many):
+    """A FLOW that keeps the item behind so many, tells all items, and says "yes" if the last one is like this one."""
+    places = [(0, (((None,), at + 1, ()),), ("no", ())) for at in range(many)]
+    turns = (((0,), many + 2, (0,)), ((None,), many + 1, (0,)))
+    places += [(0, (((None,), many + 1, (None,)),), ("no", ())), (1, turns, ("no", ())), (1, turns, ("yes", ()))]
+    return (), tuple(places)
+
+
 def small_flow(chance, most_places=5, most_many=2):
     """Some FLOW, also with PLACES to which none leads, and with THINGS that are not NEEDED."""
     words = tuple(word for word in ("a", "b") if chance.random() < 0.4)
