@@ -266,6 +266,26 @@ class Language(unittest.TestCase):
                         if inner.func.attr in ("append", "extend", "pop", "insert", "remove", "clear", "setdefault"):
                             self.assertNotIn(ast.unparse(inner.func.value), over.replace("(", " ").replace(")", " ").split())
 
+    def test_names_in_comprehensions(self):
+        def look(node, outer, depth):
+            inner, deeper = outer, depth
+            if isinstance(node, (ast.ListComp, ast.DictComp, ast.SetComp)):
+                own = {part.id for each in node.generators for part in ast.walk(each.target) if isinstance(part, ast.Name)}
+                if depth > 0:
+                    self.assertFalse(own & outer - {"_"}, node.lineno)
+                inner, deeper = outer | own, depth + 1
+            for part in ast.iter_child_nodes(node):
+                look(part, inner, deeper)
+
+        for tree in TREES.values():
+            look(tree, set(), 0)
+
+    def test_only_own_errors_are_caught(self):
+        own = {node.name for node, _ in self.each(ast.ClassDef)}
+        for node, where in self.each(ast.ExceptHandler):
+            self.assertIsInstance(node.type, ast.Name, where)
+            self.assertIn(node.type.id, own, where)
+
     def test_each_function_has_a_docstring(self):
         for node, where in self.each(ast.FunctionDef, ast.ClassDef):
             if not isinstance(node, ast.FunctionDef) or node.name != "__init__":
