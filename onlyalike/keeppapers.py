@@ -134,25 +134,37 @@ def wanted_pairs(needed):
     return out
 
 
-def part_with(flow, one, other, pairs):
-    """What comes behind two lists and shows that their PLACES do not match so; all THINGS of the FLOW are NEEDED."""
-    _, p, held = flow_through(flow, one)
-    _, q, other_held = flow_through(flow, other)
-    start = (p, q, tuple(sorted([(held.index(first), other_held.index(second)) for first, second in pairs])))
+def part_with(classes, one, other, pairs):
+    """What comes behind two lists and shows that their PLACES do not match so.
+
+    Each of both is told by its PLACE, by what is NEEDED there, and by how many numbers the list has.
+    """
+    p, needed, many = one
+    q, other_needed, other_many = other
+    start = (p, q, tuple(sorted([(needed.index(first), other_needed.index(second)) for first, second in pairs])))
+    flow = classes.flow
     going = whole_way(flow, flow, start, Joints(flow, flow).faulty_way(start))
-    return in_numbers(going, held, count_numbers(one) + count_numbers(other) - len(pairs))
+    return in_numbers(going, needed, many + other_many - len(pairs))
 
 
 def classes_paper(machine):
     """A PAPER on the CLASSES of a MACHINE, with as many LISTS as there are CLASSES."""
     need_machine(machine)
-    classes = Classes(machine_flow(machine, machine[0]))
-    flow = classes.flow
-    lists = [way for p, way in ways_met(flow).items() if classes.firsts[p] == p]
-    needed = [flow_through(flow, way)[2] for way in lists]
+    flow = machine_flow(machine, machine[0])
+    classes = Classes(flow)
+    ways = ways_met(flow)
+    lists = []
+    ends = []
+    for p, number in enumerate(classes.order):
+        # The FLOW of classes has no TURNS for what is not NEEDED, so some of its PLACES may not be met there.
+        if classes.firsts[p] == p:
+            _, _, held = flow_through(flow, ways[number])
+            lists.append(ways[number])
+            ends.append((p, [held[thing] for thing in classes.needed[p]], count_numbers(ways[number])))
+    needed = [numbers for _, numbers, _ in ends]
     if count_pairs(needed) > MOST_PARTS:
         raise TooMany(MOST_PARTS)
-    parts = [(a, b, pairs, part_with(flow, lists[a], lists[b], pairs)) for a, b, pairs in wanted_pairs(needed)]
+    parts = [(a, b, pairs, part_with(classes, ends[a], ends[b], pairs)) for a, b, pairs in wanted_pairs(needed)]
     return "classes", tuple(lists), tuple(parts)
 
 

@@ -2,12 +2,13 @@
 
 import copy
 import itertools
+import random
 import unittest
 
 from onlyalike.errors import BadMachine, BadPaper, TooMany
 from onlyalike.flows import flow_of
 from onlyalike.keeppapers import check_classes, check_need, classes_paper, need_paper
-from onlyalike.least import least_flow, same_class
+from onlyalike.least import classes_of, least_flow, same_class
 from onlyalike.machines import behaviour_for
 from onlyalike.needed import need_of, needed_behind
 from onlyalike.things import is_plain_list
@@ -34,6 +35,29 @@ def of_boxes(many):
 
 
 SIX = of_boxes(6)
+
+# What is kept in t is not NEEDED there; behind (0, 0) nothing else is kept in u, behind (0, 1) one thing more.
+MET_BY_A_THING = ((), ("a", "b"), (
+    ("s", go((), (("keep", "a"),), "t"), end()),
+    ("t", ask(("item", "a"), go((), (("empty", "a"), ("keep", "b")), "u"), go((), (("keep", "b"),), "u")), end()),
+    ("u", go((("box", "b"),), (), "u"), end())))
+
+
+def keeping_machine(chance):
+    """Some MACHINE that keeps much, and asks for little of it."""
+    boxes = ("p", "q")
+    names = ("one", "two", "three")[:chance.randint(2, 3)]
+
+    def leaf():
+        row = tuple(chance.choice((("box", "p"), ("box", "q"), ("item",))) for _ in range(chance.choice((0, 0, 0, 1))))
+        deeds = [chance.choice((("keep", box), ("keep", box), ("empty", box), ("copy", chance.choice(boxes), box)))
+                 for box in boxes if chance.random() < 0.5]
+        return go(row, tuple(deeds), chance.choice(names))
+
+    def tree():
+        return ask(("item", chance.choice(boxes)), leaf(), leaf()) if chance.random() < 0.6 else leaf()
+
+    return (), boxes, tuple((name, tree(), end()) for name in names)
 
 
 def row_holds(machine, items, number, other, behind):
@@ -192,6 +216,34 @@ class Classes(Checks):
             self.assertEqual(check_classes(machine, paper), len(lists))
             self.assertEqual(classes_paper(machine), paper)
         self.assertEqual(classes_paper(SILENT), ("classes", ((),), ()))
+
+    def test_as_many_lists_as_classes_where_a_place_is_met_by_what_is_not_needed(self):
+        # NEW alone leads from t to another PLACE than (0, 0) does, of the same CLASS.
+        self.assertEqual(classes_of(flow_of(MET_BY_A_THING)), (0, 1, 2, 2))
+        _, lists, parts = paper = classes_paper(MET_BY_A_THING)
+        self.assertEqual(lists, ((), (0,), (0, 0)))
+        self.assertEqual([part[:3] for part in parts], [(0, 1, ())])
+        self.assertEqual(check_classes(MET_BY_A_THING, paper), 3)
+        # With a PART for lists behind which things are NEEDED: w tells once more what is told in u, and then goes back.
+        words, boxes, states = MET_BY_A_THING
+        more = (words, boxes, (*states[:2], ("u", go((("box", "b"),), (), "w"), end()), (
+            "w", ask(("item", "b"), go((("box", "b"),), (("keep", "a"),), "t"), go((("box", "b"),), (), "u")), end())))
+        _, lists, parts = paper = classes_paper(more)
+        self.assertEqual(len(lists), len(set(classes_of(flow_of(more)))))
+        self.assertTrue([part for part in parts if part[2]])
+        for a, b, pairs, behind in parts:
+            self.assertTrue(part_holds(more, lists[a], lists[b], pairs, behind))
+        self.assertEqual(check_classes(more, paper), len(lists))
+
+    def test_as_many_lists_as_classes_of_machines_that_keep_much(self):
+        chance = random.Random(2)
+        for _ in range(2000):
+            machine = keeping_machine(chance)
+            _, lists, parts = paper = classes_paper(machine)
+            self.assertEqual(len(lists), len(set(classes_of(flow_of(machine)))))
+            for a, b, pairs, behind in parts:
+                self.assertTrue(part_holds(machine, lists[a], lists[b], pairs, behind))
+            self.assertEqual(check_classes(machine, paper), len(lists))
 
     def test_papers_by_hand(self):
         # Behind () and "same" nothing is NEEDED, and the next "same" is told by the one alone.
