@@ -3,7 +3,7 @@
 from onlyalike.errors import BadFlow, BadWords
 from onlyalike.growth import MOST_PLACES, MOST_ROW, Growth, Program, items_of
 from onlyalike.machines import VERDICTS, end_of, is_so, need_machine, step_of, trees_of
-from onlyalike.things import MOST_WORDS, are_words, is_integer, is_number, is_one_of, is_tuple_of, need_list
+from onlyalike.things import MOST_WORDS, are_words, count_numbers, is_number, is_one_of, is_tuple_of, need_list
 
 MOST_MANY = 16
 
@@ -158,8 +158,7 @@ def ways_met(flow):
     while at < len(order):
         number = order[at]
         way, held = ways[number], holds[number]
-        fresh = len(set([item for item in way if is_integer(item)]))
-        for item in [*words, *held, fresh]:
+        for item in [*words, *held, count_numbers(way)]:
             _, following, kept = turned(words, places[number], held, item)
             if following not in ways:
                 ways[following] = (*way, item)

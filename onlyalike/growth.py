@@ -36,7 +36,7 @@ class Growth:
 
     def __init__(self, program, most):
         self.words = program.words
-        self.program = program
+        self.source = program
         self.most = most
         self.patterns = [program.first]
         self.numbers = {program.first: 0}
@@ -52,7 +52,7 @@ class Growth:
 
     def turn_at(self, pattern, item, new):
         """The TURN for an item, new being the number behind those of the THINGS."""
-        row, label, held = self.program.step(pattern[0], pattern[1], item)
+        row, label, held = self.source.step(pattern[0], pattern[1], item)
         number = self.number_of((label, holds_of(self.words, held)))
         # What is too long a row is seen by one part too many.
         told = tuple([None if part == new else part for part in row[:MOST_ROW + 1]])
@@ -62,7 +62,7 @@ class Growth:
         """The PLACE of a PATTERN."""
         many = len(kept_things(self.words, pattern[1]))
         turns = tuple([self.turn_at(pattern, item, many) for item in items_of(self.words, pattern[1])])
-        verdict, row = self.program.end(pattern[0], pattern[1])
+        verdict, row = self.source.end(pattern[0], pattern[1])
         return many, turns, (verdict, row[:MOST_ROW + 1])
 
     def all_places(self):

@@ -8,16 +8,11 @@ from onlyalike.joints import Joints, whole_way
 from onlyalike.machines import end_of, gone_through, need_machine, step_of, trees_of
 from onlyalike.needed import needed_of_all
 from onlyalike.needs import Needs
-from onlyalike.things import is_ascending, is_integer, is_one_of, is_plain_list, is_tuple_of
+from onlyalike.things import count_numbers, is_ascending, is_integer, is_one_of, is_plain_list, is_tuple_of
 
 MOST_BEHIND = 20000
 MOST_LISTS = 300
 MOST_PARTS = 5000
-
-
-def count_numbers(items):
-    """How many unlike numbers a PLAIN LIST has; these are the numbers below that."""
-    return len(set([item for item in items if is_integer(item)]))
 
 
 def is_behind(thing, words):

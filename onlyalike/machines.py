@@ -1,6 +1,6 @@
 """MACHINES: what one is by its form, and how it goes through a LIST."""
 
-from onlyalike.errors import BadMachine
+from onlyalike.errors import BadMachine, BadVerdict
 from onlyalike.things import are_words, is_one_of, is_tuple_of, is_word, need_list
 
 MOST_OWN_WORDS = 4
@@ -114,6 +114,13 @@ def need_machine(thing):
     place = machine_fault(thing)
     if place is not None:
         raise BadMachine(place)
+    return thing
+
+
+def need_verdict(thing):
+    """The VERDICT itself; BadVerdict of what is none."""
+    if not is_one_of(thing, VERDICTS):
+        raise BadVerdict(thing)
     return thing
 
 

@@ -52,17 +52,21 @@ class Stages(Program):
             kept.extend(held_behind)
         return tuple(items), tuple(numbers), tuple(kept)
 
-    def end(self, label, held):
-        """The VERDICT of all, and what the last one tells behind the end."""
+    def ends_of_each(self, label, held):
+        """The VERDICTS of all, and what the last one tells behind the end."""
         items = []
-        verdict = "yes"
+        verdicts = []
         for flow, number, own in zip(self.flows, label, self.held_by_each(label, held)):
             items, number_behind, held_behind = read_by(flow, number, own, items)
             said, last = ended(flow[1][number_behind], held_behind)
             items.extend(last)
-            if said == "no":
-                verdict = "no"
-        return verdict, tuple(items)
+            verdicts.append(said)
+        return verdicts, tuple(items)
+
+    def end(self, label, held):
+        """The VERDICT "yes" if all say so, and what the last one tells behind the end."""
+        verdicts, told = self.ends_of_each(label, held)
+        return ("no" if "no" in verdicts else "yes"), told
 
 
 class Pair(Program):

@@ -88,6 +88,11 @@ def numbered(words, things):
     return tuple(out)
 
 
+def count_numbers(items):
+    """How many unlike numbers a PLAIN LIST has; these are the numbers below that."""
+    return len(set([item for item in items if is_integer(item)]))
+
+
 def plain_list(words, things):
     """The PLAIN LIST of a LIST for WORDS."""
     need_words(words)

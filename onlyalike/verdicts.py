@@ -1,11 +1,11 @@
 """FLOWS as verdicts on lists: both, either, the one without the other, turned; and lists that tell them apart."""
 
-from onlyalike.errors import BadVerdict, BadWords
+from onlyalike.errors import BadWords
 from onlyalike.fitted import fitted_flow, lessened
 from onlyalike.flows import need_flow, ways_met
-from onlyalike.machines import VERDICTS
+from onlyalike.machines import need_verdict
 from onlyalike.stages import Pair, Sides, Stages, words_of_all
-from onlyalike.things import MOST_WORDS, is_one_of
+from onlyalike.things import MOST_WORDS
 
 
 class Joined(Pair):
@@ -82,8 +82,7 @@ def flow_turned(flow):
 def first_with(flow, verdict):
     """A shortest PLAIN LIST with a VERDICT, or None."""
     need_flow(flow)
-    if not is_one_of(verdict, VERDICTS):
-        raise BadVerdict(verdict)
+    need_verdict(verdict)
     fitting = [way for p, way in ways_met(flow).items() if flow[1][p][2][0] == verdict]
     return fitting[0] if len(fitting) > 0 else None
 

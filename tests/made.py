@@ -191,6 +191,19 @@ def told_from(flow, place, held, items):
     return tuple(rows), verdict, tuple(x if isinstance(x, str) else held[x] for x in row)
 
 
+def read(flow, place, held, items):
+    """What a FLOW tells of items from a PLACE on, and where it stands behind them."""
+    words, places = flow
+    told = []
+    for item in items:
+        many, turns, _ = places[place]
+        kinds = [*words, *held]
+        row, place, origins = turns[kinds.index(item) if item in kinds else len(words) + many]
+        told += [item if x is None else x if isinstance(x, str) else held[x] for x in row]
+        held = [item if x is None else held[x] for x in origins]
+    return told, place, held
+
+
 def small_machine(chance):
     """Some MACHINE with at most two WORDS, BOXES and STATES."""
     words = tuple(word for word in ("a", "b") if chance.random() < 0.5)

@@ -38,12 +38,27 @@ INTERFACE = {
                     "first_with(flow, verdict)", "same_verdicts(one, other)", "unlike_verdicts(one, other)"],
     "pipes.py": ["need_pipe(thing)", "run_pipe(pipe, things)", "pipe_as_flow(pipe)", "may_turn_stages(pipe)",
                  "needless_stages(pipe)"],
+    "guards.py": ["breach_of(pipe, guard, given)", "guard_paper(pipe, guard, given)", "check_guard(pipe, guard, given, paper)"],
+    "counts.py": ["count_lists(machine, verdict, many, things)", "list_at(machine, verdict, many, things, number)",
+                  "list_number(machine, verdict, things, items)", "lists_in_all(words, many, things)",
+                  "range_of(machine, verdict, many)"],
+    "losses.py": ["loss_of(machine, in_sum)", "does_keep(machine, in_sum)", "loss_paper(machine, in_sum)",
+                  "check_loss(machine, in_sum, paper)"],
+    "runner.py": ["Runner", "under(manager, deed)"],
+}
+# What each class of the interface defines itself: its methods, those beside the instance, its properties, its operators.
+CLASSES = {
+    "Runner": ["__init__(self, machine)", "classmethod of(cls, machine, journal)", "property program(self)", "property fed(self)",
+               "property told(self)", "property state_now(self)", "property boxes_now(self)", "property journal(self)",
+               "feed(self, thing)", "ending(self)", "needed_now(self)", "swap(self, machine)", "slim(self)", "undo(self)",
+               "redo(self)", "copy(self)", "trial(self)", "__eq__(self, other)", "__len__(self)"],
 }
 BUILTINS = set("""len range enumerate zip min max sum abs sorted reversed int str bool bytes list tuple dict set frozenset
-isinstance ord repr any all divmod pow super ValueError KeyError OverflowError TypeError""".split())
+isinstance ord repr any all divmod pow super ValueError KeyError OverflowError TypeError classmethod property""".split())
 METHODS = set("""append clear copy count endswith extend find get index insert isalnum isalpha isdigit islower isspace isupper
 items join keys ljust lower lstrip partition pop remove replace reverse rfind rjust rpartition rsplit rstrip setdefault split
 splitlines startswith strip update upper values zfill bit_length add discard __init__""".split())
+DOUBLE = ("__init__", "__enter__", "__exit__", "__eq__", "__len__", "__iter__", "__contains__", "__getitem__", "__setitem__")
 NOT_NAMES = set("""register mro elements open input law version_info with_traceback add_note attrgetter breakpoint builtins
 compile copyright credits delattr dir eval exec exit gc getattr globals hasattr help id importlib license locals methodcaller os
 quit setattr vars sys""".split())
@@ -104,6 +119,36 @@ class Language(unittest.TestCase):
                     have[node.name] = node.name
             for entry in wanted:
                 self.assertEqual(have.get(entry.split("(")[0]), entry, name)
+
+    def test_each_class_of_the_interface_defines_its_methods_itself(self):
+        classes = {node.name: node for node, _ in self.each(ast.ClassDef)}
+        for name, wanted in CLASSES.items():
+            have = []
+            for node in classes[name].body:
+                if isinstance(node, ast.FunctionDef):
+                    parameters = [arg.arg for arg in node.args.args] + (["*"] if node.args.kwonlyargs else [])
+                    parameters += [f"{arg.arg}={ast.unparse(default)}" for arg, default in zip(
+                        node.args.kwonlyargs, node.args.kw_defaults)]
+                    self.assertEqual(node.args.defaults, [])
+                    have.append(" ".join([*(ast.unparse(x) for x in node.decorator_list), f"{node.name}({', '.join(parameters)})"]))
+            for entry in wanted:
+                self.assertIn(entry, have)
+
+    def test_properties_and_operators_change_nothing(self):
+        quiet = ("__eq__", "__len__", "__contains__", "__getitem__", "__iter__")
+        properties = set()
+        for node, where in self.each(ast.FunctionDef):
+            is_property = any(ast.unparse(x) == "property" for x in node.decorator_list)
+            if is_property:
+                properties.add(node.name)
+            if is_property or node.name in quiet:
+                for part in ast.walk(node):
+                    self.assertNotIsInstance(part, (ast.AugAssign, ast.Delete), where)
+                    if isinstance(part, (ast.Attribute, ast.Subscript)):
+                        self.assertIsInstance(part.ctx, ast.Load, where)
+        for node, where in self.each(ast.Attribute):
+            if isinstance(node.ctx, ast.Store):
+                self.assertNotIn(node.attr, properties, where)
 
     def test_sizes_and_characters(self):
         for name, text in SOURCES.items():
@@ -182,7 +227,7 @@ class Language(unittest.TestCase):
         for name, tree in TREES.items():
             for bound in bound_names(tree):
                 self.assertNotIn(bound, NOT_NAMES, name)
-                self.assertTrue(bound in ("__init__", "_") or not bound.startswith("__"), bound)
+                self.assertTrue(bound in ("_", *DOUBLE) or not bound.startswith("__"), bound)
                 self.assertFalse(bound.startswith(("_wall", "_pe_", "_dcw_")), bound)
             strict = [x.id for x in ast.walk(tree) if isinstance(x, ast.Name) and isinstance(x.ctx, ast.Store)]
             strict += [x.arg for x in ast.walk(tree) if isinstance(x, ast.arg)]
@@ -223,7 +268,9 @@ class Language(unittest.TestCase):
                 self.assertIsInstance(node.func, ast.Name, where)
 
     def test_own_methods_are_called_where_they_stand(self):
-        methods = {x.name for node, _ in self.each(ast.ClassDef) for x in node.body if isinstance(x, ast.FunctionDef)}
+        functions = [x for node, _ in self.each(ast.ClassDef) for x in node.body if isinstance(x, ast.FunctionDef)]
+        properties = {x.name for x in functions if any(ast.unparse(y) == "property" for y in x.decorator_list)}
+        methods = {x.name for x in functions} - properties
         called = {id(node.func) for node, _ in self.each(ast.Call)}
         attributes = {node.attr for node, _ in self.each(ast.Attribute) if isinstance(node.ctx, ast.Store)}
         self.assertFalse(methods & attributes)
@@ -231,7 +278,7 @@ class Language(unittest.TestCase):
             if node.attr in methods:
                 self.assertIn(id(node), called, where)
             elif id(node) not in called:
-                self.assertIn(node.attr, attributes, where)
+                self.assertIn(node.attr, attributes | properties, where)
 
     def test_sets_are_not_stored(self):
         for name, tree in TREES.items():
@@ -283,12 +330,14 @@ class Language(unittest.TestCase):
     def test_only_own_errors_are_caught(self):
         own = {node.name for node, _ in self.each(ast.ClassDef)}
         for node, where in self.each(ast.ExceptHandler):
-            self.assertIsInstance(node.type, ast.Name, where)
-            self.assertIn(node.type.id, own, where)
+            for caught in node.type.elts if isinstance(node.type, ast.Tuple) else [node.type]:
+                self.assertIsInstance(caught, ast.Name, where)
+                self.assertIn(caught.id, own, where)
 
     def test_each_function_has_a_docstring(self):
         for node, where in self.each(ast.FunctionDef, ast.ClassDef):
-            if not isinstance(node, ast.FunctionDef) or node.name != "__init__":
+            # LANGUAGE.md tells of all rows of the last two, and of no docstring there.
+            if not isinstance(node, ast.FunctionDef) or node.name not in ("__init__", "__exit__", "__iter__"):
                 self.assertTrue(ast.get_docstring(node), where)
 
 
