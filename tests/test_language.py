@@ -45,6 +45,10 @@ INTERFACE = {
     "losses.py": ["loss_of(machine, in_sum)", "does_keep(machine, in_sum)", "loss_paper(machine, in_sum)",
                   "check_loss(machine, in_sum, paper)"],
     "runner.py": ["Runner", "under(manager, deed)"],
+    "shelf.py": ["Shelf"],
+    "texts.py": ["machine_text(machine)", "list_text(machine, items)", "read_machine(text)", "read_list(machine, text)"],
+    "judge.py": ["judged(claim, paper)"],
+    "desk.py": ["Desk"],
 }
 # What each class of the interface defines itself: its methods, those beside the instance, its properties, its operators.
 CLASSES = {
@@ -52,6 +56,11 @@ CLASSES = {
                "property told(self)", "property state_now(self)", "property boxes_now(self)", "property journal(self)",
                "feed(self, thing)", "ending(self)", "needed_now(self)", "swap(self, machine)", "slim(self)", "undo(self)",
                "redo(self)", "copy(self)", "trial(self)", "__eq__(self, other)", "__len__(self)"],
+    "Shelf": ["__init__(self, *, strict=True)", "property is_strict(self)", "__getitem__(self, name)",
+              "__setitem__(self, name, machine)", "__contains__(self, name)", "__iter__(self)", "__len__(self)",
+              "__eq__(self, other)", "forget(self, name)", "labels(self)", "replace(self, name, machine)", "undo(self)",
+              "trial(self)"],
+    "Desk": ["__init__(self, text)", "property runner(self)", "say(self, line)"],
 }
 BUILTINS = set("""len range enumerate zip min max sum abs sorted reversed int str bool bytes list tuple dict set frozenset
 isinstance ord repr any all divmod pow super ValueError KeyError OverflowError TypeError classmethod property""".split())
@@ -196,7 +205,13 @@ class Language(unittest.TestCase):
                 if isinstance(node, ast.Expr):
                     self.assertIsInstance(node.value, ast.Constant)
                 elif isinstance(node, ast.Assign):
-                    ast.literal_eval(node.value)
+                    # A table may have functions that are defined above it.
+                    table = node.value.values if isinstance(node.value, ast.Dict) else []
+                    if any(isinstance(part, ast.Name) for part in table):
+                        self.assertTrue(all(isinstance(part, ast.Name) and part.id in seen for part in table), name)
+                        self.assertTrue(all(isinstance(ast.literal_eval(key), str) for key in node.value.keys))
+                    else:
+                        ast.literal_eval(node.value)
                     self.assertEqual(len(node.targets), 1)
                     seen.append(node.targets[0].id)
                 elif isinstance(node, ast.ImportFrom):
