@@ -76,7 +76,6 @@ class Shelf:
         """Put a MACHINE in the place of one that is ALIKE, or, if it is not strict, ALIKE IN SUM."""
         if name not in self:
             raise Missing(name)
-        need_machine(machine)
         there = self.standing[0][name]
         parting = parting_of(there, machine) if self.strict else parting_in_sum(there, machine)
         if parting is not None:

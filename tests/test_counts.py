@@ -227,6 +227,11 @@ class Wrong(unittest.TestCase):
         wide = wide_machine(76, False)
         for thing in [*wrong_things(), "1", (), (1,), -1, 41, 10 ** 30]:
             self.refused(BadNumber, thing, count_lists, wide, "yes", thing, thing)
+            self.refused(BadNumber, thing, count_lists, SILENT, "yes", thing, 40)
+            self.refused(BadNumber, thing, list_at, SILENT, "yes", thing, 40, 0)
+            self.refused(BadNumber, thing, list_at, SILENT, "yes", 40, thing, 0)
+            self.refused(BadNumber, thing, lists_in_all, 4, thing, 40)
+            self.refused(BadNumber, thing, lists_in_all, thing, 4, 40)
             self.refused(BadNumber, thing, count_lists, wide, "yes", 40, thing)
             self.refused(BadNumber, thing, list_at, wide, "yes", thing, thing, thing)
             self.refused(BadNumber, thing, list_at, wide, "yes", 0, thing, None)

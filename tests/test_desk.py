@@ -78,7 +78,7 @@ class Lines(unittest.TestCase):
                   ("count yes 41 0", "no"), ("count yes 0 41", "no"), ("count yes 999 1", "no"), ("count yes 03 2", "no"),
                   ("count yes 3 02", "no"), ("count yes -1 2", "no"), ("count maybe 3 2", "no"), ("count yes 3", "no"),
                   ("count yes 3 2 1", "no"), ("count", "no"), ("count yes x 2", "no"), ("count yes 1000 2", "no"),
-                  ("list yes 3 2 13", "0 1 1"), ("list yes 3 2 0", "same same same"), ("list yes 3 2 14", "no"), ("list yes 0 0 0", "empty"),
+                  ("list yes 3 2 13", "0 1 1"), ("list yes 1 1 1", "0"), ("list yes 3 2 0", "same same same"), ("list yes 3 2 14", "no"), ("list yes 0 0 0", "empty"),
                   ("list no 0 0 0", "no"), ("list yes 3 2 013", "no"), ("list yes 3 2 -1", "no"), ("list yes 3 2", "no"),
                   ("list yes 3 2 0 0", "no"), ("list maybe 3 2 0", "no"), ("list yes 41 2 0", "no"), ("list yes 3 41 0", "no"),
                   ("list yes 3 2 " + "9" * 40, "no"), ("list yes 3 2 " + "0" * 40, "no"), ("list yes 03 2 0", "no"), ("list", "no"))

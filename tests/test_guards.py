@@ -130,6 +130,15 @@ class Breaches(unittest.TestCase):
         self.breach((NEIGHBOUR_FLOW, PASS), compile_condition(("all", ("not", ("is", NOW, "same")))), None,
                     ("same", "same"), (0, 0))
 
+    def test_several_unlike_things(self):
+        self.breach((PASS,), compile_condition(("all", ("like", NOW, ("first",)))), None, (0, 1))
+        self.breach((NO_REPEATS, LATER), compile_condition(("all", ("like", NOW, ("first",)))), HAS_A, ("a", 0), (0, "a"))
+        self.breach((PASS,), compile_condition(("all", ("or", (("like", NOW, ("back", 1)), ("like", NOW, ("back", 2)), (
+            "none", ("back", 2)))))), None, (0, 1, 2), (0, 0, 1), ("a", 0, 1))
+        unlike = ("and", tuple(("not", ("like", NOW, ("back", at))) for at in (1, 2, 3)))
+        self.breach((PASS,), compile_condition(("all", ("not", ("and", (unlike, ("not", ("none", ("back", 3)))))))),
+                    compile_condition(("all", ("not", ("or", tuple(("like", NOW, ("back", at)) for at in (1, 2)))))), (0, 1, 2, 3))
+
     def test_what_is_told_behind_the_end(self):
         self.breach((LATER,), NO_A, None, ("a",))
         self.breach((AT_END,), NO_END, None, ())

@@ -206,6 +206,24 @@ class Losses(unittest.TestCase):
             told[keeps] = True
         self.assertEqual(set(told), {(False, False), (True, False), (True, True)})
 
+    def test_the_least_of_several_losses(self):
+        # They part at once by "v" and "w", and are the same again behind three items; by one item more they part there,
+        # and are so at once.
+        def tells_all(name, then):
+            return name, go((("item",),), (), then), end("yes" if name[0] == "p" else "no")
+
+        machine = (("v", "w"), (), (
+            ("s", ask(("word", "v"), go((), (), "pa"), ask(("word", "w"), go((), (), "qa"), go((("item",),), (), "t"))), end()),
+            ("t", ask(("word", "v"), go((), (), "z"), ask(("word", "w"), go((), (), "z"), go((("item",),), (), "z"))), end()),
+            tells_all("pa", "pb"), tells_all("pb", "pc"), tells_all("pc", "z"), tells_all("qa", "qb"), tells_all("qb", "qc"),
+            tells_all("qc", "z"), tells_all("z", "z")))
+        self.loses(machine, False, 4)
+        self.assertEqual({items[1:] for items in loss_of(machine, False)}, {("v",), ("w",)})
+        # Without that one the other is the least one.
+        words, boxes, (s, _, *rest) = machine
+        other = (words, boxes, (s, ("t", go((("item",),), (), "t"), end()), *rest))
+        self.loses(other, False, 8)
+
     def test_deep_losses(self):
         # Only behind as many "w" an item is told no more.
         ring = ring_machine(40, "w", ("w",))
@@ -396,6 +414,26 @@ class Papers(unittest.TestCase):
         self.refused("form", SILENT, True, ("lost", long + (0,), ()))
         self.refused("form", SILENT, True, ("lost", (), long + (0,)))
 
+    def test_places_come_to_again(self):
+        # Behind "v" it comes to the first PLACE again, behind "w" to another one.
+        back = (("v", "w"), (), (
+            ("s", ask(("word", "v"), go((), (), "s"), ask(("word", "w"), go((), (), "t"), go((("item",),), (), "u"))), end()),
+            ("t", ask(("word", "v"), go((("word", "v"), ("word", "v")), (), "t"), go((("item",), ("item",)), (), "t")), end("no")),
+            ("u", go((("item",),), (), "u"), end())))
+        nothing = ((), ())
+        self.kept(back, False, [(0, 1, nothing, (0, ())), (1, 0, nothing, (0, ())), (-1, -2, nothing, (0, ())),
+                                (-2, -1, nothing, (0, ()))])
+
+    def test_twenty_thousand_standings(self):
+        paper = loss_paper(two_rings(25), False)
+        self.assertEqual((paper[0], len(paper[1]), len(set(paper[1]))), ("kept", 20000, 20000))
+        self.assertEqual(check_loss(two_rings(25), False, paper), "kept")
+        self.refused("kept", two_rings(25), False, ("kept", paper[1][:-1]))
+        for call in (loss_of, does_keep, loss_paper, lambda *rest: check_loss(*rest, paper)):
+            with self.assertRaises(TooMany) as caught:
+                call(two_rings(26), False)
+            self.assertEqual(caught.exception.most, 20000)
+
     def test_too_many_places(self):
         wide = wide_machine(76, False)
         for in_sum in (False, True):
@@ -433,6 +471,26 @@ class Papers(unittest.TestCase):
             check_loss(machine, in_sum, paper)
             loss_of(machine, in_sum)
             self.assertEqual((machine, paper), kept)
+
+
+def two_rings(many):
+    """A MACHINE that goes by "a" or "b" to a ring of 100 PLACES, or to one of so many times 4, and tells all items there.
+
+    In each of both two other words go on, by STATES or by boxes.
+    """
+    def turns(on, by_state, by_box):
+        toggle = ask(("empty", "x"), ask(("empty", "y"), go((("item",),), (("keep", "x"),), by_box), go(
+            (("item",),), (("empty", "y"),), by_box)), ask(("empty", "y"), go((("item",),), (("keep", "y"),), by_box), go(
+                (("item",),), (("empty", "x"),), by_box)))
+        return ask(("word", on[0]), go((("item",),), (), by_state), ask(("word", on[1]), toggle, go((("item",),), (), by_box)))
+
+    def ring(letter, size, on, row):
+        names = [letter + "abcdefghij"[at // 10] + "abcdefghij"[at % 10] for at in range(size)]
+        return [(name, turns(on, names[(at + 1) % size], name), end("yes", row)) for at, name in enumerate(names)]
+
+    start = ask(("word", "a"), go((), (), "paa"), ask(("word", "b"), go((), (), "qaa"), go((("item",),), (), "s")))
+    return ("a", "b", "c", "d"), ("x", "y"), (
+        ("s", start, end()), *ring("p", 25, "ac", ()), *ring("q", many, "bd", (("word", "a"),)))
 
 
 def later_by(many, words=()):
