@@ -97,14 +97,7 @@ class Standings(Sides):
     def is_closed(self, standings):
         """Whether STANDINGS, told by their form, show that there is no BREACH."""
         nodes = [self.node_of(standing) for standing in standings]
-        lot = {node: True for node in nodes}
-        if len(lot) < len(nodes) or self.pair.first not in lot:
-            return False
-        for node in nodes:
-            behind = [following for _, following in self.nodes_behind(node)]
-            if not self.is_end_good(node) or not all([following in lot for following in behind]):
-                return False
-        return True
+        return len(set(nodes)) == len(nodes) and self.is_closed_lot(self.pair.first, nodes)
 
 
 def standings_with(pipe, guard, given):

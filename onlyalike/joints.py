@@ -149,11 +149,4 @@ class Joints(Search):
 
     def is_closed(self, joints):
         """Whether JOINTS, told by their form, are a closed lot."""
-        lot = {joint: True for joint in joints}
-        if FIRST_JOINT not in lot or not all([self.has_joint(joint) for joint in joints]):
-            return False
-        for joint in joints:
-            behind = [following for _, following in self.nodes_behind(joint)]
-            if not self.is_end_good(joint) or not all([following in lot for following in behind]):
-                return False
-        return True
+        return all([self.has_joint(joint) for joint in joints]) and self.is_closed_lot(FIRST_JOINT, joints)

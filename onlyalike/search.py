@@ -30,6 +30,17 @@ class Search:
         """Whether what was come to newly is not GOOD, or is known to lead to what is not."""
         return node is None or node in self.parted or not self.is_end_good(node)
 
+    def is_closed_lot(self, start, nodes):
+        """Whether all to which one comes from some is among them, this one, too, and all of them are GOOD."""
+        lot = {node: True for node in nodes}
+        if start not in lot:
+            return False
+        for node in nodes:
+            behind = [following for _, following in self.nodes_behind(node)]
+            if not self.is_end_good(node) or not all([following in lot for following in behind]):
+                return False
+        return True
+
     def way_back(self, at, item):
         """The items by which one came to what has this index, and one more."""
         items = [item]

@@ -177,20 +177,6 @@ def summed(behaviour):
     return sum(rows, ()) + last, verdict
 
 
-def told_from(flow, place, held, items):
-    """What a FLOW tells of items from a PLACE on where the THINGS are held, by their names."""
-    words, places = flow
-    rows = []
-    for item in items:
-        many, turns, _ = places[place]
-        kinds = [*words, *held]
-        row, place, origins = turns[kinds.index(item) if item in kinds else len(words) + many]
-        rows.append(tuple(item if x is None else x if isinstance(x, str) else held[x] for x in row))
-        held = [item if x is None else held[x] for x in origins]
-    verdict, row = places[place][2]
-    return tuple(rows), verdict, tuple(x if isinstance(x, str) else held[x] for x in row)
-
-
 def read(flow, place, held, items):
     """What a FLOW tells of items from a PLACE on, and where it stands behind them."""
     words, places = flow
@@ -202,6 +188,16 @@ def read(flow, place, held, items):
         told += [item if x is None else x if isinstance(x, str) else held[x] for x in row]
         held = [item if x is None else held[x] for x in origins]
     return told, place, held
+
+
+def told_from(flow, place, held, items):
+    """What a FLOW tells of items from a PLACE on where the THINGS are held, by their names."""
+    rows = []
+    for item in items:
+        row, place, held = read(flow, place, held, [item])
+        rows.append(tuple(row))
+    verdict, last = flow[1][place][2]
+    return tuple(rows), verdict, tuple(x if isinstance(x, str) else held[x] for x in last)
 
 
 def small_machine(chance):
